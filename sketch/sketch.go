@@ -1,0 +1,164 @@
+// Package sketch: few numbers kept of many, and how far off they may be: see DOC.md.
+package sketch
+
+import (
+	"sketch/api"
+	"sketch/keep"
+	"sketch/tape"
+)
+
+// Desk holds a tape of coins, and sketches.
+type Desk struct {
+	room     int
+	tape     tape.Tape
+	sketches []held
+}
+
+// held is a sketch on the desk, and whether it is sealed: that is not among what merges and texts hand on.
+type held struct {
+	kept   keep.Sketch
+	sealed bool
+}
+
+// New makes a desk (P3).
+func New(room int) (*Desk, api.Errno) {
+	if room < 1 || room > api.MaxRoom {
+		return nil, api.ErrArg
+	}
+	return &Desk{room: room}, api.OK
+}
+
+// Feed lays coins on the tape (P4).
+func (d *Desk) Feed(coins string) api.Errno {
+	if !tape.AreCoins(coins) {
+		return api.ErrCoin
+	}
+	if len(coins) > api.MaxTape-d.tape.Left() {
+		return api.ErrRoom
+	}
+	d.tape.Lay(coins)
+	return api.OK
+}
+
+// Left tells how many coins are on the tape (P4).
+func (d *Desk) Left() int {
+	return d.tape.Left()
+}
+
+// Open begins a sketch (P5).
+func (d *Desk) Open(k int) (int, api.Errno) {
+	if k < api.MinK || k > api.MaxK {
+		return 0, api.ErrArg
+	}
+	if len(d.sketches) >= d.room {
+		return 0, api.ErrRoom
+	}
+	begun := held{kept: keep.Begin(k)}
+	d.sketches = append(d.sketches, begun)
+	return len(d.sketches) - 1, api.OK
+}
+
+// Add lets a number come in (P6).
+func (d *Desk) Add(s int, x int, w int) api.Errno {
+	if !d.has(s) {
+		return api.ErrSketch
+	}
+	if d.sketches[s].sealed {
+		return api.ErrSealed
+	}
+	if w < 1 {
+		return api.ErrArg
+	}
+	kept := d.sketches[s].kept
+	// The count plus w could be too great for an int.
+	if w > api.MaxCount-kept.Count() {
+		return api.ErrFull
+	}
+	next := kept.With(x, w)
+	return d.settle(s, next)
+}
+
+// Size tells what a sketch has (P7).
+func (d *Desk) Size(s int) (api.Size, api.Errno) {
+	if !d.has(s) {
+		return api.Size{}, api.ErrSketch
+	}
+	return d.sketches[s].kept.Size(), api.OK
+}
+
+// Ends tells the least and the greatest number that came in (P7).
+func (d *Desk) Ends(s int) (int, int, api.Errno) {
+	if !d.has(s) {
+		return 0, 0, api.ErrSketch
+	}
+	kept := d.sketches[s].kept
+	if kept.Count() == 0 {
+		return 0, 0, api.ErrEmpty
+	}
+	return kept.Least, kept.Greatest, api.OK
+}
+
+// Level tells the items of a level (P8).
+func (d *Desk) Level(s int, h int) ([]int, api.Errno) {
+	if !d.has(s) {
+		return nil, api.ErrSketch
+	}
+	levels := d.sketches[s].kept.Levels
+	if h < 0 || h >= len(levels) {
+		return nil, api.ErrArg
+	}
+	// The caller may write into what comes out.
+	items := make([]int, len(levels[h].Items))
+	copy(items, levels[h].Items)
+	return items, api.OK
+}
+
+// Ledger tells what was thinned (P8).
+func (d *Desk) Ledger(s int) (api.Ledger, api.Errno) {
+	if !d.has(s) {
+		return api.Ledger{}, api.ErrSketch
+	}
+	return d.sketches[s].kept.Ledger(), api.OK
+}
+
+// has tells whether there is a sketch s on the desk.
+func (d *Desk) has(s int) bool {
+	return s >= 0 && s < len(d.sketches)
+}
+
+// settle puts next, once it has settled, in the place of sketch s, which there is.
+// With too few coins sketch s stays as it was.
+func (d *Desk) settle(s int, next keep.Sketch) api.Errno {
+	coins := d.tape.Coins()
+	settled, used, enough := next.Settled(coins)
+	if !enough {
+		return api.ErrTape
+	}
+	d.sketches[s].kept = settled
+	d.tape.Use(used)
+	return api.OK
+}
+
+// Merge lets all of a sketch come into another (P9).
+func (d *Desk) Merge(s int, t int) api.Errno { return api.OK }
+
+// Rank tells how much is at most a number (P10).
+func (d *Desk) Rank(s int, q int) (api.Rank, api.Errno) { return api.Rank{}, api.OK }
+
+// Quantile tells the number at a place (P11).
+func (d *Desk) Quantile(s int, r int) (int, api.Errno) { return 0, api.OK }
+
+// Split tells how much lies between cuts (P12).
+func (d *Desk) Split(s int, cuts []int) ([]int, api.Errno) { return nil, api.OK }
+
+// Encode writes a sketch as a text (P13).
+func (d *Desk) Encode(s int) (string, api.Errno) { return "", api.OK }
+
+// Decode begins a sketch out of a text (P14).
+func (d *Desk) Decode(text string) (int, api.Errno) { return 0, api.OK }
+
+// Seal lets nothing more come into a sketch (P15).
+func (d *Desk) Seal(s int) api.Errno { return api.OK }
+
+// Take lets a sender's report come in, once (P16).
+func (d *Desk) Take(s int, sender int, seq int, text string) api.Errno { return api.OK }
