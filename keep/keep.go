@@ -56,7 +56,7 @@ func (s Sketch) Ledger() api.Ledger {
 // With answers a sketch like s into which x came too, with the weight w (1 or more). It has not settled.
 func (s Sketch) With(x int, w int) Sketch {
 	next := s.copied()
-	next.widen(x)
+	next.widen(x, x)
 	h := 0
 	for rest := w; rest > 0; rest /= 2 {
 		if h == len(next.Levels) {
@@ -70,6 +70,26 @@ func (s Sketch) With(x int, w int) Sketch {
 	return next
 }
 
+// Merged answers a sketch like s into which all that came into t came too. It has not settled.
+func (s Sketch) Merged(t Sketch) Sketch {
+	next := s.copied()
+	if t.K < next.K {
+		next.K = t.K
+	}
+	// Without a count the ends of t mean nothing.
+	if t.Count() > 0 {
+		next.widen(t.Least, t.Greatest)
+	}
+	for h, level := range t.Levels {
+		if h == len(next.Levels) {
+			next.Levels = append(next.Levels, Level{})
+		}
+		next.Levels[h].Items = joined(next.Levels[h].Items, level.Items)
+		next.Levels[h].Times += level.Times
+	}
+	return next
+}
+
 // copied answers a sketch like s whose levels are its own.
 func (s Sketch) copied() Sketch {
 	levels := make([]Level, len(s.Levels))
@@ -77,14 +97,14 @@ func (s Sketch) copied() Sketch {
 	return Sketch{K: s.K, Levels: levels, Least: s.Least, Greatest: s.Greatest}
 }
 
-// widen lets x count for the least and the greatest; it comes ahead of x's becoming an item.
-func (s *Sketch) widen(x int) {
+// widen lets numbers from least to greatest count for the ends; it comes ahead of their becoming items.
+func (s *Sketch) widen(least int, greatest int) {
 	empty := s.Count() == 0
-	if empty || x < s.Least {
-		s.Least = x
+	if empty || least < s.Least {
+		s.Least = least
 	}
-	if empty || x > s.Greatest {
-		s.Greatest = x
+	if empty || greatest > s.Greatest {
+		s.Greatest = greatest
 	}
 }
 

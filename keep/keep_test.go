@@ -158,6 +158,67 @@ func TestWith(t *testing.T) {
 	}
 }
 
+func TestMerged(t *testing.T) {
+	none := Begin(3)
+	low := of(5, []int{1, 4, 4})
+	low.Levels[0].Times = 2
+	low.Least, low.Greatest = 1, 8
+	high := of(4, []int{-9, 4}, nil, []int{-1})
+	high.Levels[1].Times = 3
+	high.Least, high.Greatest = -20, 5
+	for _, c := range []struct {
+		s, o               Sketch
+		k, least, greatest int
+		want               string
+	}{
+		{low, high, 4, -20, 8, "[-9 1 4 4 4]*2 []*3 [-1]*0 "},
+		{high, low, 4, -20, 8, "[-9 1 4 4 4]*2 []*3 [-1]*0 "},
+		{low, low, 5, 1, 8, "[1 1 4 4 4 4]*4 "},
+		{none, high, 3, -20, 5, "[-9 4]*0 []*3 [-1]*0 "},
+		{low, none, 3, 1, 8, "[1 4 4]*2 "},
+		{none, none, 3, 0, 0, "[]*0 "},
+	} {
+		s, o := shown(c.s), shown(c.o)
+		next := c.s.Merged(c.o)
+		if got := shown(next); got != c.want || next.K != c.k || next.Least != c.least || next.Greatest != c.greatest {
+			t.Errorf("P9: %smerged with %s: %sK %d, %d to %d, want %sK %d, %d to %d", s, o, got, next.K, next.Least, next.Greatest, c.want, c.k, c.least, c.greatest)
+		}
+		next.K = 2
+		if _, _, enough := next.Settled(coins("0101")); !enough {
+			t.Errorf("P9: %smerged with %s: too few coins", s, o)
+		}
+		if shown(c.s) != s || shown(c.o) != o || shown(next) != c.want {
+			t.Errorf("P9: Merged of %sand %schanged them: %sand %s", s, o, shown(c.s), shown(c.o))
+		}
+	}
+}
+
+func TestTold(t *testing.T) {
+	s := of(8, []int{2, 9}, []int{4}, []int{4, 6})
+	s.Levels[0].Times = 1
+	s.Levels[1].Times = 1
+	s.Least, s.Greatest = 1, 9
+	for _, c := range []struct{ q, low, mid, high int }{
+		{0, 0, 0, 0}, {1, 1, 0, 3}, {2, 1, 1, 4}, {3, 1, 1, 4}, {4, 4, 7, 10}, {5, 4, 7, 10}, {6, 8, 11, 11}, {8, 8, 11, 11}, {9, 12, 12, 12}, {10, 12, 12, 12},
+	} {
+		if got := s.Rank(c.q); got != (api.Rank{Low: c.low, Mid: c.mid, High: c.high}) {
+			t.Errorf("P10: Rank(%d) = %+v, want %d, %d, %d", c.q, got, c.low, c.mid, c.high)
+		}
+	}
+	for i, want := range []int{1, 4, 4, 4, 4, 4, 4, 6, 6, 6, 6, 9} {
+		if got := s.Quantile(i + 1); got != want {
+			t.Errorf("P11: Quantile(%d) = %d, want %d", i+1, got, want)
+		}
+	}
+	for _, c := range []struct{ cuts, want []int }{
+		{nil, []int{12}}, {[]int{3}, []int{1, 11}}, {[]int{2, 4, 6, 9}, []int{1, 6, 4, 1, 0}}, {[]int{0, 1, 5}, []int{0, 0, 7, 5}},
+	} {
+		if got := s.Split(c.cuts); !slices.Equal(got, c.want) {
+			t.Errorf("P12: Split(%v) = %v, want %v", c.cuts, got, c.want)
+		}
+	}
+}
+
 func TestLedgerAndSize(t *testing.T) {
 	s := of(7, []int{1}, nil, []int{2, 2, 2})
 	s.Levels[0].Times = 5

@@ -81,17 +81,23 @@ func wantLeft(t *testing.T, d *sketch.Desk, want int) {
 func seen(d *sketch.Desk) string {
 	text := fmt.Sprintf("left %d", d.Left())
 	for s := 0; s < api.MaxRoom; s++ {
-		size, e := d.Size(s)
-		if e != api.OK {
-			break
-		}
-		a, b, _ := d.Ends(s)
-		ledger, _ := d.Ledger(s)
-		text += fmt.Sprintf("; %+v, %d to %d, %+v", size, a, b, ledger)
-		for h := 0; h < size.Levels; h++ {
-			items, _ := d.Level(s, h)
-			text += fmt.Sprint(" ", items)
-		}
+		text += seenSketch(d, s)
+	}
+	return text
+}
+
+// seenSketch writes all that a desk tells of what is in a sketch; nothing, if there is no such sketch.
+func seenSketch(d *sketch.Desk, s int) string {
+	size, e := d.Size(s)
+	if e != api.OK {
+		return ""
+	}
+	a, b, _ := d.Ends(s)
+	ledger, _ := d.Ledger(s)
+	text := fmt.Sprintf("; %+v, %d to %d, %+v", size, a, b, ledger)
+	for h := 0; h < size.Levels; h++ {
+		items, _ := d.Level(s, h)
+		text += fmt.Sprint(" ", items)
 	}
 	return text
 }

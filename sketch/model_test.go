@@ -1,14 +1,11 @@
 package sketch_test
 
 import (
+	"cmp"
 	"fmt"
-	"math/rand"
 	"slices"
-	"strings"
-	"testing"
 
 	"sketch/api"
-	"sketch/sketch"
 )
 
 // model is a sketch as the document tells it, with no care for speed.
@@ -16,7 +13,16 @@ type model struct {
 	k     int
 	items [][]int
 	times []int
-	came  []int // each number once, whatever its weight
+	came  []coming
+}
+
+// coming is a number that came in, with its weight.
+type coming struct {
+	x, w int
+}
+
+func modelOf(k int) *model {
+	return &model{k: k, items: make([][]int, 1), times: make([]int, 1)}
 }
 
 func (m *model) copied() *model {
@@ -57,15 +63,44 @@ func (m *model) grow(levels int) {
 	}
 }
 
-// add lets a number come in and answers how many coins were used, or -1 if there are too few.
-func (m *model) add(x, w int, coins string) int {
-	m.came = append(m.came, x)
+// add lets a number come in.
+func (m *model) add(x, w int) {
+	m.came = append(m.came, coming{x, w})
 	for h := 0; w>>h > 0; h++ {
 		m.grow(h + 1)
 		if w>>h&1 == 1 {
 			m.items[h] = append(m.items[h], x)
 		}
 	}
+}
+
+// merge lets all of o come in.
+func (m *model) merge(o *model) {
+	m.k = min(m.k, o.k)
+	m.came = gathered(append(m.came, o.came...))
+	m.grow(len(o.items))
+	for h := range o.items {
+		m.items[h] = append(m.items[h], o.items[h]...)
+		m.times[h] += o.times[h]
+	}
+}
+
+// gathered has each number once: else what came in would double with each Merge of a sketch into itself.
+func gathered(came []coming) []coming {
+	slices.SortFunc(came, func(a, b coming) int { return cmp.Compare(a.x, b.x) })
+	each := []coming{}
+	for _, c := range came {
+		if last := len(each) - 1; last >= 0 && each[last].x == c.x {
+			each[last].w += c.w
+			continue
+		}
+		each = append(each, c)
+	}
+	return each
+}
+
+// settle answers how many coins were used, or -1 if there are too few.
+func (m *model) settle(coins string) int {
 	used := 0
 	for h := m.tooFull(); h >= 0; h = m.tooFull() {
 		if used == len(coins) {
@@ -96,62 +131,44 @@ func (m *model) count() int {
 	return count
 }
 
+// ends are the least and the greatest number that came in, or 0 and 0.
+func (m *model) ends() (int, int) {
+	least, greatest := 0, 0
+	for i, c := range m.came {
+		if i == 0 || c.x < least {
+			least = c.x
+		}
+		if i == 0 || c.x > greatest {
+			greatest = c.x
+		}
+	}
+	return least, greatest
+}
+
+func (m *model) ledger() api.Ledger {
+	ledger := api.Ledger{Times: m.times}
+	for h, times := range m.times {
+		ledger.Error += times << h
+		ledger.Spread += times << (2 * h)
+	}
+	return ledger
+}
+
 // seenModel writes all that a desk with these sketches must tell of itself, as seen does.
 func seenModel(sketches []*model, left int) string {
 	text := fmt.Sprintf("left %d", left)
 	for _, m := range sketches {
 		size := api.Size{K: m.k, Count: m.count(), Levels: len(m.items)}
-		ledger := api.Ledger{Times: m.times}
 		levels := ""
-		for h, items := range m.items {
+		for _, items := range m.items {
 			size.Items += len(items)
-			ledger.Error += m.times[h] << h
-			ledger.Spread += m.times[h] << (2 * h)
 			slices.Sort(items)
 			levels += fmt.Sprint(" ", items)
 		}
-		least, greatest := 0, 0
-		if len(m.came) > 0 {
-			least, greatest = slices.Min(m.came), slices.Max(m.came)
-		}
-		text += fmt.Sprintf("; %+v, %d to %d, %+v", size, least, greatest, ledger) + levels
+		least, greatest := m.ends()
+		text += fmt.Sprintf("; %+v, %d to %d, %+v", size, least, greatest, m.ledger()) + levels
 	}
 	return text
-}
-
-// someWeight is mostly small, at times great, at times just too great.
-func someWeight(r *rand.Rand, count int) int {
-	switch r.Intn(12) {
-	case 0:
-		return r.Intn(4) - 2
-	case 1:
-		return 1 << r.Intn(27)
-	case 2:
-		return r.Intn(api.MaxCount)
-	case 3:
-		return api.MaxCount - count + r.Intn(2)
-	case 4, 5, 6:
-		return 1 + r.Intn(20)
-	}
-	return 1
-}
-
-func someNumber(r *rand.Rand) int {
-	switch r.Intn(8) {
-	case 0:
-		return oddNumbers[r.Intn(len(oddNumbers))]
-	case 1:
-		return int(r.Uint64())
-	}
-	return r.Intn(40) - 20
-}
-
-func someCoins(r *rand.Rand, n int) string {
-	text := strings.Builder{}
-	for range n {
-		text.WriteByte('0' + byte(r.Intn(2)))
-	}
-	return text.String()
 }
 
 // wantAdd is what the model says of an Add, and the model and coins behind it.
@@ -163,159 +180,109 @@ func wantAdd(m *model, x, w int, coins string) (*model, string, api.Errno) {
 		return m, coins, api.ErrFull
 	}
 	next := m.copied()
-	used := next.add(x, w, coins)
+	next.add(x, w)
+	return settledModel(m, next, coins)
+}
+
+// wantMerge is what the model says of a Merge, and the model and coins behind it.
+func wantMerge(m, o *model, coins string) (*model, string, api.Errno) {
+	if m.count()+o.count() > api.MaxCount {
+		return m, coins, api.ErrFull
+	}
+	next := m.copied()
+	next.merge(o.copied())
+	return settledModel(m, next, coins)
+}
+
+// settledModel is next, settled, and the coins behind that; or m, if there are too few.
+func settledModel(m, next *model, coins string) (*model, string, api.Errno) {
+	used := next.settle(coins)
 	if used < 0 {
 		return m, coins, api.ErrTape
 	}
 	return next, coins[used:], api.OK
 }
 
-func TestAgainstTheModel(t *testing.T) {
-	refused := [11]int{}
-	for seed := range 60 {
-		r := rand.New(rand.NewSource(int64(seed)))
-		ks := []int{2, 2 + r.Intn(6), 2 + r.Intn(63)}
-		d := deskOf(t, 3, "", ks...)
-		coins := ""
-		sketches := []*model{}
-		for _, k := range ks {
-			sketches = append(sketches, &model{k: k, items: make([][]int, 1), times: make([]int, 1)})
-		}
-		onlyOnes := seed%2 == 0
-		for range 500 {
-			if more := someCoins(r, r.Intn(12)); r.Intn(8) == 0 && len(coins)+len(more) <= api.MaxTape {
-				feed(t, d, more)
-				coins += more
-			}
-			s := r.Intn(3)
-			x, w := someNumber(r), 1
-			if !onlyOnes {
-				w = someWeight(r, sketches[s].count())
-			}
-			next, rest, want := wantAdd(sketches[s], x, w, coins)
-			sketches[s], coins = next, rest
-			refused[want]++
-			if e := d.Add(s, x, w); e != want {
-				t.Fatalf("P6: seed %d: Add(%d, %d, %d) = %d, want %d", seed, s, x, w, e, want)
-			}
-			if got, want := seen(d), seenModel(sketches, len(coins)); got != want {
-				t.Fatalf("P6 to P8: seed %d: behind Add(%d, %d, %d):\n%s\nwant\n%s", seed, s, x, w, got, want)
+// weigh is what those items weigh that are above one number (or there is none) and at most another (or there is none).
+func (m *model) weigh(above, upTo *int) int {
+	sum := 0
+	for h, items := range m.items {
+		for _, x := range items {
+			if (above == nil || x > *above) && (upTo == nil || x <= *upTo) {
+				sum += 1 << h
 			}
 		}
 	}
-	for _, e := range []api.Errno{api.OK, api.ErrArg, api.ErrFull, api.ErrTape} {
-		if refused[e] < 100 {
-			t.Errorf("too few calls are answered %d: %v", e, refused)
+	return sum
+}
+
+func (m *model) rank(q int) api.Rank {
+	n, off, mid := m.count(), m.ledger().Error, m.weigh(nil, &q)
+	least, greatest := m.ends()
+	switch {
+	case q < least:
+		return api.Rank{Low: 0, Mid: mid, High: 0}
+	case q >= greatest:
+		return api.Rank{Low: n, Mid: mid, High: n}
+	}
+	return api.Rank{Low: max(mid-off, 1), Mid: mid, High: min(mid+off, n-1)}
+}
+
+func (m *model) quantile(r int) int {
+	least, greatest := m.ends()
+	switch r {
+	case 1:
+		return least
+	case m.count():
+		return greatest
+	}
+	all := slices.Concat(m.items...)
+	slices.Sort(all)
+	for _, x := range all {
+		if m.weigh(nil, &x) >= r {
+			return x
 		}
 	}
+	return 0
 }
 
-func TestShapeHangsOnWeightsAlone(t *testing.T) {
-	r := rand.New(rand.NewSource(9))
-	a := deskOf(t, 1, strings.Repeat("0", 1024), 5)
-	b := deskOf(t, 1, someCoins(r, 1024), 5)
-	for range 1000 {
-		w := 1 + r.Intn(9)
-		add(t, a, 0, w, 7)
-		add(t, b, 0, w, someNumber(r))
-		one, _ := a.Size(0)
-		two, _ := b.Size(0)
-		if one != two || a.Left() != b.Left() {
-			t.Fatalf("P17: %+v, left %d, and %+v, left %d", one, a.Left(), two, b.Left())
-		}
-		if a.Left() < 100 {
-			feed(t, a, strings.Repeat("1", 900))
-			feed(t, b, someCoins(r, 900))
-		}
+func (m *model) split(cuts []int) []int {
+	parts := []int{}
+	var above *int
+	for i := range cuts {
+		parts = append(parts, m.weigh(above, &cuts[i]))
+		above = &cuts[i]
 	}
+	return append(parts, m.weigh(above, nil))
 }
 
-func TestCallsOnOtherDesksMeanNothing(t *testing.T) {
-	alone := deskOf(t, 2, "0101101", 2, 3)
-	add(t, alone, 0, 1, 8, 6, 4, 2, 9, 7)
-	add(t, alone, 1, 3, 1, 2, 3, 4)
-	beside := deskOf(t, 2, "0101101", 2, 3)
-	other := deskOf(t, 8, "111111", 2)
-	for _, x := range []int{8, 6, 4, 2, 9, 7} {
-		add(t, beside, 0, 1, x)
-		add(t, other, 0, 1, -x)
-	}
-	other.Open(4)
-	add(t, beside, 1, 3, 1, 2, 3, 4)
-	if one, two := seen(alone), seen(beside); one != two {
-		t.Errorf("P2: the same calls, beside those on another desk:\n%s\n%s", one, two)
-	}
-}
-
-func TestOtherSketchesStay(t *testing.T) {
-	d := deskOf(t, 3, strings.Repeat("01", 20), 2, 2, 2)
-	add(t, d, 0, 1, 1, 2, 3)
-	add(t, d, 2, 1, 4, 5, 6)
-	add(t, d, 1, 5, 50, -50, 7, 8)
-	wantLevels(t, d, 0, []int{1}, []int{2})
-	wantLevels(t, d, 2, []int{4}, []int{6})
-}
-
-func TestListsThatComeOutAreFresh(t *testing.T) {
-	d := deskOf(t, 1, "0", 4)
-	add(t, d, 0, 1, 6, 4, 5)
-	add(t, d, 0, 2, 1)
-	before := seen(d)
-	for range 2 {
-		for h := range 2 {
-			items, _ := d.Level(0, h)
-			spoil(items)
+// nearItems are the items, the ends, the numbers just below and above them, and the edges; in rising order, each once.
+func (m *model) nearItems() []int {
+	least, greatest := m.ends()
+	near := []int{lowest, highest}
+	for _, x := range append(slices.Concat(m.items...), least, greatest) {
+		near = append(near, x)
+		if x > lowest {
+			near = append(near, x-1)
 		}
-		ledger, _ := d.Ledger(0)
-		spoil(ledger.Times)
-		if after := seen(d); after != before {
-			t.Fatalf("P2: lists that came out were written into:\n%s\nis now\n%s", before, after)
+		if x < highest {
+			near = append(near, x+1)
 		}
 	}
-	kept, _ := d.Level(0, 0)
-	ledger, _ := d.Ledger(0)
-	add(t, d, 0, 1, 3, 2, 1, 0)
-	if !slices.Equal(kept, []int{4, 5, 6}) || !slices.Equal(ledger.Times, []int{0, 0}) {
-		t.Errorf("P2: lists that came out have changed: %v, %v", kept, ledger.Times)
-	}
+	slices.Sort(near)
+	return slices.Compact(near)
 }
 
-// spoil writes into a list and into its spare room.
-func spoil(list []int) {
-	list = list[:cap(list)]
-	for i := range list {
-		list[i] = 99
-	}
-}
-
-func TestNoCallPanics(t *testing.T) {
-	texts := []string{"", "0", "x", "SK", "SK\x02\x01\x00\x00\x00\x00\x00\xa1\x57", strings.Repeat("1", 5000), strings.Repeat("\xff", 5000)}
-	for _, a := range oddNumbers {
-		sketch.New(a)
-		for _, b := range oddNumbers {
-			d := deskOf(t, 3, "0101", 2, 64)
-			add(t, d, 0, 3, 1, 2, 3)
-			for _, text := range texts {
-				d.Feed(text)
-				d.Decode(text)
-				d.Take(a, b, b, text)
+// nearRanks are the ranks of all items, and those just below and above them.
+func (m *model) nearRanks() []int {
+	near := []int{1, m.count()}
+	for _, q := range m.nearItems() {
+		for r := m.weigh(nil, &q) - 1; r < m.weigh(nil, &q)+2; r++ {
+			if r >= 1 && r <= m.count() {
+				near = append(near, r)
 			}
-			for _, c := range oddNumbers {
-				d.Add(a, b, c)
-			}
-			d.Open(a)
-			d.Size(a)
-			d.Ends(a)
-			d.Level(a, b)
-			d.Ledger(a)
-			d.Merge(a, b)
-			d.Rank(a, b)
-			d.Quantile(a, b)
-			d.Split(a, []int{b, b})
-			d.Split(a, nil)
-			d.Encode(a)
-			d.Seal(a)
-			d.Left()
 		}
 	}
+	slices.Sort(near)
+	return slices.Compact(near)
 }

@@ -78,6 +78,27 @@ func (d *Desk) Add(s int, x int, w int) api.Errno {
 	return d.settle(s, next)
 }
 
+// Merge lets all that came into sketch t come into sketch s too (P9).
+func (d *Desk) Merge(s int, t int) api.Errno {
+	if !d.has(s) {
+		return api.ErrSketch
+	}
+	if !d.has(t) {
+		return api.ErrSketch
+	}
+	if d.sketches[s].sealed {
+		return api.ErrSealed
+	}
+	kept := d.sketches[s].kept
+	comes := d.sketches[t].kept
+	count := kept.Count()
+	if count+comes.Count() > api.MaxCount {
+		return api.ErrFull
+	}
+	next := kept.Merged(comes)
+	return d.settle(s, next)
+}
+
 // Size tells what a sketch has (P7).
 func (d *Desk) Size(s int) (api.Size, api.Errno) {
 	if !d.has(s) {
@@ -121,6 +142,59 @@ func (d *Desk) Ledger(s int) (api.Ledger, api.Errno) {
 	return d.sketches[s].kept.Ledger(), api.OK
 }
 
+// Rank tells how much of all that came in is at most q (P10).
+func (d *Desk) Rank(s int, q int) (api.Rank, api.Errno) {
+	if !d.has(s) {
+		return api.Rank{}, api.ErrSketch
+	}
+	kept := d.sketches[s].kept
+	if kept.Count() == 0 {
+		return api.Rank{}, api.ErrEmpty
+	}
+	return kept.Rank(q), api.OK
+}
+
+// Quantile tells the number at a place (P11).
+func (d *Desk) Quantile(s int, r int) (int, api.Errno) {
+	if !d.has(s) {
+		return 0, api.ErrSketch
+	}
+	kept := d.sketches[s].kept
+	count := kept.Count()
+	if count == 0 {
+		return 0, api.ErrEmpty
+	}
+	if r < 1 || r > count {
+		return 0, api.ErrArg
+	}
+	return kept.Quantile(r), api.OK
+}
+
+// Split tells how much lies between cuts (P12).
+func (d *Desk) Split(s int, cuts []int) ([]int, api.Errno) {
+	if !d.has(s) {
+		return nil, api.ErrSketch
+	}
+	kept := d.sketches[s].kept
+	if kept.Count() == 0 {
+		return nil, api.ErrEmpty
+	}
+	if len(cuts) > api.MaxCuts || !rise(cuts) {
+		return nil, api.ErrArg
+	}
+	return kept.Split(cuts), api.OK
+}
+
+// rise tells whether each cut is above the one ahead of it.
+func rise(cuts []int) bool {
+	for i := 1; i < len(cuts); i++ {
+		if cuts[i] <= cuts[i-1] {
+			return false
+		}
+	}
+	return true
+}
+
 // has tells whether there is a sketch s on the desk.
 func (d *Desk) has(s int) bool {
 	return s >= 0 && s < len(d.sketches)
@@ -138,18 +212,6 @@ func (d *Desk) settle(s int, next keep.Sketch) api.Errno {
 	d.tape.Use(used)
 	return api.OK
 }
-
-// Merge lets all of a sketch come into another (P9).
-func (d *Desk) Merge(s int, t int) api.Errno { return api.OK }
-
-// Rank tells how much is at most a number (P10).
-func (d *Desk) Rank(s int, q int) (api.Rank, api.Errno) { return api.Rank{}, api.OK }
-
-// Quantile tells the number at a place (P11).
-func (d *Desk) Quantile(s int, r int) (int, api.Errno) { return 0, api.OK }
-
-// Split tells how much lies between cuts (P12).
-func (d *Desk) Split(s int, cuts []int) ([]int, api.Errno) { return nil, api.OK }
 
 // Encode writes a sketch as a text (P13).
 func (d *Desk) Encode(s int) (string, api.Errno) { return "", api.OK }

@@ -1,0 +1,158 @@
+package sketch_test
+
+import (
+	"fmt"
+	"math/rand"
+	"slices"
+	"strings"
+	"testing"
+
+	"sketch/api"
+	"sketch/sketch"
+)
+
+// someWeight is mostly small, at times great, at times just too great.
+func someWeight(r *rand.Rand, count int) int {
+	switch r.Intn(12) {
+	case 0:
+		return r.Intn(4) - 2
+	case 1:
+		return 1 << r.Intn(27)
+	case 2:
+		return r.Intn(api.MaxCount)
+	case 3:
+		return api.MaxCount - count + r.Intn(2)
+	case 4, 5, 6:
+		return 1 + r.Intn(20)
+	}
+	return 1
+}
+
+func someNumber(r *rand.Rand) int {
+	switch r.Intn(8) {
+	case 0:
+		return oddNumbers[r.Intn(len(oddNumbers))]
+	case 1:
+		return int(r.Uint64())
+	}
+	return r.Intn(40) - 20
+}
+
+func someCoins(r *rand.Rand, n int) string {
+	text := strings.Builder{}
+	for range n {
+		text.WriteByte('0' + byte(r.Intn(2)))
+	}
+	return text.String()
+}
+
+// both is a desk and what the model says of it.
+type both struct {
+	d        *sketch.Desk
+	sketches []*model
+	coins    string
+	answers  [11]int // how many calls were answered so
+}
+
+func bothOf(t *testing.T, ks ...int) *both {
+	b := &both{d: deskOf(t, len(ks), "", ks...)}
+	for _, k := range ks {
+		b.sketches = append(b.sketches, modelOf(k))
+	}
+	return b
+}
+
+func (b *both) feed(t *testing.T, coins string) {
+	if len(b.coins)+len(coins) <= api.MaxTape {
+		feed(t, b.d, coins)
+		b.coins += coins
+	}
+}
+
+func (b *both) add(t *testing.T, s, x, w int) {
+	next, rest, want := wantAdd(b.sketches[s], x, w, b.coins)
+	b.sketches[s], b.coins = next, rest
+	got := b.d.Add(s, x, w)
+	b.compare(t, fmt.Sprintf("P6: Add(%d, %d, %d)", s, x, w), got, want)
+}
+
+func (b *both) merge(t *testing.T, s, o int) {
+	next, rest, want := wantMerge(b.sketches[s], b.sketches[o], b.coins)
+	b.sketches[s], b.coins = next, rest
+	got := b.d.Merge(s, o)
+	b.compare(t, fmt.Sprintf("P9: Merge(%d, %d)", s, o), got, want)
+}
+
+func (b *both) compare(t *testing.T, call string, got, want api.Errno) {
+	t.Helper()
+	b.answers[want]++
+	if got != want {
+		t.Fatalf("%s = %d, want %d", call, got, want)
+	}
+	if got, want := seen(b.d), seenModel(b.sketches, len(b.coins)); got != want {
+		t.Fatalf("behind %s:\n%s\nwant\n%s", call, got, want)
+	}
+}
+
+// tryCalls makes some calls on a desk and on its model; one call out of so many is a Merge.
+func tryCalls(t *testing.T, seed int64, calls, merges int, onlyOnes bool) *both {
+	r := rand.New(rand.NewSource(seed))
+	b := bothOf(t, 2, 2+r.Intn(6), 2+r.Intn(63))
+	for range calls {
+		if r.Intn(8) == 0 {
+			b.feed(t, someCoins(r, r.Intn(12)))
+		}
+		s := r.Intn(3)
+		if r.Intn(merges) == 0 {
+			b.merge(t, s, r.Intn(3))
+			continue
+		}
+		w := 1
+		if !onlyOnes {
+			w = someWeight(r, b.sketches[s].count())
+		}
+		b.add(t, s, someNumber(r), w)
+	}
+	return b
+}
+
+func TestAgainstTheModel(t *testing.T) {
+	answers := [11]int{}
+	for seed := range 120 {
+		b := tryCalls(t, int64(seed), 300, []int{1000, 30, 8, 3}[seed/2%4], seed%2 == 0)
+		for e, n := range b.answers {
+			answers[e] += n
+		}
+		for s, m := range b.sketches {
+			compareTold(t, b.d, s, m)
+		}
+	}
+	for _, e := range []api.Errno{api.OK, api.ErrArg, api.ErrFull, api.ErrTape} {
+		if answers[e] < 100 {
+			t.Errorf("too few calls are answered %d: %v", e, answers)
+		}
+	}
+}
+
+// compareTold compares Rank, Quantile and Split with what the model says, at the numbers near all items and at the edges.
+func compareTold(t *testing.T, d *sketch.Desk, s int, m *model) {
+	count := m.count()
+	if count == 0 {
+		return
+	}
+	for _, q := range m.nearItems() {
+		if got, e := d.Rank(s, q); e != api.OK || got != m.rank(q) {
+			t.Fatalf("P10: Rank(%d, %d) = %+v, %d, want %+v", s, q, got, e, m.rank(q))
+		}
+	}
+	for _, r := range m.nearRanks() {
+		if got, e := d.Quantile(s, r); e != api.OK || got != m.quantile(r) {
+			t.Fatalf("P11: Quantile(%d, %d) = %d, %d, want %d", s, r, got, e, m.quantile(r))
+		}
+	}
+	for cuts := range slices.Chunk(m.nearItems(), 13) {
+		if got, e := d.Split(s, cuts); e != api.OK || !slices.Equal(got, m.split(cuts)) {
+			t.Fatalf("P12: Split(%d, %v) = %v, %d, want %v", s, cuts, got, e, m.split(cuts))
+		}
+	}
+}
