@@ -68,6 +68,7 @@ func TestWhatIsToldIsTrue(t *testing.T) {
 			}
 			wantTrueRanks(t, b.d, s, m)
 			wantTrueQuantiles(t, b.d, s, m)
+			wantCame(t, b.d, s, m)
 			wantBounds(t, b.d, s, m, onlyOnes)
 		}
 	}
@@ -101,6 +102,20 @@ func wantTrueQuantiles(t *testing.T, d *sketch.Desk, s int, m *model) {
 		}
 		if e != api.OK || m.weighCame(x) < r-ledger.Error || below > r-1+ledger.Error {
 			t.Fatalf("P17: Quantile(%d, %d) = %d, %d: %d are at most it, %d below, the error is %d", s, r, x, e, m.weighCame(x), below, ledger.Error)
+		}
+	}
+}
+
+// wantCame tells that every item is a number that came in.
+func wantCame(t *testing.T, d *sketch.Desk, s int, m *model) {
+	t.Helper()
+	size, _ := d.Size(s)
+	for h := range size.Levels {
+		items, _ := d.Level(s, h)
+		for _, x := range items {
+			if !slices.ContainsFunc(m.came, func(c coming) bool { return c.x == x }) {
+				t.Fatalf("P17: Level(%d, %d) has %d, which never came in", s, h, x)
+			}
 		}
 	}
 }
