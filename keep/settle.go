@@ -27,7 +27,7 @@ func (s Sketch) toThin() (int, bool) {
 		return 0, false
 	}
 	for h, level := range s.Levels {
-		if len(level.Items) > capacityOf(s.K, len(s.Levels)-1-h) {
+		if len(level.Items) > s.capacityAt(h) {
 			return h, true
 		}
 	}
@@ -59,9 +59,14 @@ func (s *Sketch) thin(h int, coin bool) {
 func (s Sketch) capacity() int {
 	sum := 0
 	for h := range s.Levels {
-		sum += capacityOf(s.K, len(s.Levels)-1-h)
+		sum += s.capacityAt(h)
 	}
 	return sum
+}
+
+// capacityAt is how many items level h may have, as the levels are.
+func (s Sketch) capacityAt(h int) int {
+	return capacityOf(s.K, len(s.Levels)-1-h)
 }
 
 // capacityOf is the capacity of the level that has so many levels above it.

@@ -49,13 +49,14 @@ func someCoins(r *rand.Rand, n int) string {
 // both is a desk and what the model says of it.
 type both struct {
 	d        *sketch.Desk
+	room     int
 	sketches []*model
 	coins    string
 	answers  [11]int // how many calls were answered so
 }
 
-func bothOf(t *testing.T, ks ...int) *both {
-	b := &both{d: deskOf(t, len(ks), "", ks...)}
+func bothOf(t *testing.T, room int, ks ...int) *both {
+	b := &both{d: deskOf(t, room, "", ks...), room: room}
 	for _, k := range ks {
 		b.sketches = append(b.sketches, modelOf(k))
 	}
@@ -71,6 +72,9 @@ func (b *both) feed(t *testing.T, coins string) {
 
 func (b *both) add(t *testing.T, s, x, w int) {
 	next, rest, want := wantAdd(b.sketches[s], x, w, b.coins)
+	if used := len(b.coins) - len(rest); w == 1 && used > 1 {
+		t.Fatalf("P17: Add(%d, %d, 1) would use %d coins", s, x, used)
+	}
 	b.sketches[s], b.coins = next, rest
 	got := b.d.Add(s, x, w)
 	b.compare(t, fmt.Sprintf("P6: Add(%d, %d, %d)", s, x, w), got, want)
@@ -81,6 +85,21 @@ func (b *both) merge(t *testing.T, s, o int) {
 	b.sketches[s], b.coins = next, rest
 	got := b.d.Merge(s, o)
 	b.compare(t, fmt.Sprintf("P9: Merge(%d, %d)", s, o), got, want)
+}
+
+// copy begins a sketch out of the text of another.
+func (b *both) copy(t *testing.T, s int) {
+	begun, want := 0, api.ErrRoom
+	if len(b.sketches) < b.room {
+		begun, want = len(b.sketches), api.OK
+		b.sketches = append(b.sketches, b.sketches[s].copied())
+	}
+	text := encode(t, b.d, s)
+	n, got := b.d.Decode(text)
+	if n != begun {
+		t.Fatalf("P14: Decode(%q) = %d, %d, want %d, %d", text, n, got, begun, want)
+	}
+	b.compare(t, fmt.Sprintf("P14: Decode(%q)", text), got, want)
 }
 
 func (b *both) compare(t *testing.T, call string, got, want api.Errno) {
@@ -94,17 +113,21 @@ func (b *both) compare(t *testing.T, call string, got, want api.Errno) {
 	}
 }
 
-// tryCalls makes some calls on a desk and on its model; one call out of so many is a Merge.
+// tryCalls makes some calls on a desk and on its model; one call out of so many is a Merge, half as many are a Decode.
 func tryCalls(t *testing.T, seed int64, calls, merges int, onlyOnes bool) *both {
 	r := rand.New(rand.NewSource(seed))
-	b := bothOf(t, 2, 2+r.Intn(6), 2+r.Intn(63))
+	b := bothOf(t, 5, 2, 2+r.Intn(6), 2+r.Intn(63))
 	for range calls {
 		if r.Intn(8) == 0 {
 			b.feed(t, someCoins(r, r.Intn(12)))
 		}
-		s := r.Intn(3)
+		s := r.Intn(len(b.sketches))
 		if r.Intn(merges) == 0 {
-			b.merge(t, s, r.Intn(3))
+			b.merge(t, s, r.Intn(len(b.sketches)))
+			continue
+		}
+		if r.Intn(2*merges) == 0 {
+			b.copy(t, s)
 			continue
 		}
 		w := 1
@@ -118,7 +141,7 @@ func tryCalls(t *testing.T, seed int64, calls, merges int, onlyOnes bool) *both 
 
 func TestAgainstTheModel(t *testing.T) {
 	answers := [11]int{}
-	for seed := range 120 {
+	for seed := range 48 {
 		b := tryCalls(t, int64(seed), 300, []int{1000, 30, 8, 3}[seed/2%4], seed%2 == 0)
 		for e, n := range b.answers {
 			answers[e] += n
@@ -127,7 +150,7 @@ func TestAgainstTheModel(t *testing.T) {
 			compareTold(t, b.d, s, m)
 		}
 	}
-	for _, e := range []api.Errno{api.OK, api.ErrArg, api.ErrFull, api.ErrTape} {
+	for _, e := range []api.Errno{api.OK, api.ErrArg, api.ErrRoom, api.ErrFull, api.ErrTape} {
 		if answers[e] < 100 {
 			t.Errorf("too few calls are answered %d: %v", e, answers)
 		}

@@ -13,17 +13,23 @@ import (
 
 func TestShapeHangsOnWeightsAlone(t *testing.T) {
 	r := rand.New(rand.NewSource(9))
-	a := deskOf(t, 2, strings.Repeat("0", 1024), 5, 4)
-	b := deskOf(t, 2, someCoins(r, 1024), 5, 4)
+	a := deskOf(t, 3, strings.Repeat("0", 1024), 5, 4)
+	b := deskOf(t, 3, someCoins(r, 1024), 5, 4)
 	for i := range 1000 {
 		w := 1 + r.Intn(9)
-		add(t, a, i%2, w, 7)
-		add(t, b, i%2, w, someNumber(r))
+		// Sketch 2 is there from the 450th call on.
+		s := i % (2 + i/500)
+		add(t, a, s, w, 7)
+		add(t, b, s, w, someNumber(r))
 		if i%100 == 99 {
 			merge(t, a, 0, i/100%2)
 			merge(t, b, 0, i/100%2)
 		}
-		for s := range 2 {
+		if i == 450 {
+			decode(t, a, encode(t, a, 0), 2)
+			decode(t, b, encode(t, b, 0), 2)
+		}
+		for s := range 3 {
 			if one, two := shape(a, s), shape(b, s); one != two || a.Left() != b.Left() {
 				t.Fatalf("P17: %s, left %d, and %s, left %d", one, a.Left(), two, b.Left())
 			}
@@ -59,7 +65,7 @@ func (m *model) weighCame(q int) int {
 }
 
 func TestWhatIsToldIsTrue(t *testing.T) {
-	for seed := range 100 {
+	for seed := range 48 {
 		onlyOnes := seed%2 == 0
 		b := tryCalls(t, int64(1000+seed), 200, []int{1000, 20, 5}[seed/2%3], onlyOnes)
 		for s, m := range b.sketches {
@@ -138,6 +144,7 @@ func wantBounds(t *testing.T, d *sketch.Desk, s int, m *model, onlyOnes bool) {
 }
 
 // inAllWays makes the same calls with all ways in which so many coins may lie, and answers the desks.
+// They have room for one sketch more.
 func inAllWays(t *testing.T, coins int, ks []int, calls func(d *sketch.Desk)) []*sketch.Desk {
 	desks := []*sketch.Desk{}
 	for way := range 1 << coins {
@@ -145,7 +152,7 @@ func inAllWays(t *testing.T, coins int, ks []int, calls func(d *sketch.Desk)) []
 		for i := range coins {
 			text += fmt.Sprint(way >> i & 1)
 		}
-		d := deskOf(t, len(ks), text, ks...)
+		d := deskOf(t, len(ks)+1, text, ks...)
 		calls(d)
 		if d.Left() != 0 {
 			t.Fatalf("P17: of %d coins %d are left", coins, d.Left())
@@ -201,4 +208,18 @@ func TestCoinsAreFairForOneMergedIntoItself(t *testing.T) {
 		merge(t, d, 0, 0)
 	})
 	wantFair(t, desks, 0, slices.Concat(one, one), false)
+}
+
+func TestCoinsAreFairForSketchesOfTexts(t *testing.T) {
+	one := []int{5, 3, 9, 1, 7, 2, 8}
+	two := []int{2, 6, 6, 1}
+	desks := inAllWays(t, 5, []int{2, 3}, func(d *sketch.Desk) {
+		add(t, d, 0, 1, one...)
+		decode(t, d, encode(t, d, 0), 2)
+		add(t, d, 2, 1, two...)
+		merge(t, d, 1, 2)
+		merge(t, d, 1, 0)
+	})
+	wantFair(t, desks, 2, slices.Concat(one, two), false)
+	wantFair(t, desks, 1, slices.Concat(one, two, one), false)
 }

@@ -99,5 +99,6 @@ func seenSketch(d *sketch.Desk, s int) string {
 		items, _ := d.Level(s, h)
 		text += fmt.Sprint(" ", items)
 	}
-	return text
+	written, _ := d.Encode(s)
+	return text + fmt.Sprintf(" %x", written)
 }

@@ -167,6 +167,7 @@ func seenModel(sketches []*model, left int) string {
 		}
 		least, greatest := m.ends()
 		text += fmt.Sprintf("; %+v, %d to %d, %+v", size, least, greatest, m.ledger()) + levels
+		text += fmt.Sprintf(" %x", m.parts().text())
 	}
 	return text
 }

@@ -59,3 +59,24 @@ func TestNothingMergesIntoASealedSketch(t *testing.T) {
 		t.Errorf("P9: behind Merge of a sealed sketch: count %d, sealed %v", size.Count, d.sketches[1].sealed)
 	}
 }
+
+func TestTextDoesNotTellOfASeal(t *testing.T) {
+	d, _ := New(2)
+	d.Open(2)
+	d.Add(0, 5, 1)
+	before, _ := d.Encode(0)
+	d.sketches[0].sealed = true
+	text, e := d.Encode(0)
+	if text != before || e != api.OK {
+		t.Errorf("P13: Encode of a sealed sketch = %q, %d, want %q", text, e, before)
+	}
+	if s, e := d.Decode(text); s != 1 || e != api.OK {
+		t.Fatalf("P14: Decode(%q) = %d, %d, want 1, OK", text, s, e)
+	}
+	if e := d.Add(1, 7, 1); e != api.OK {
+		t.Errorf("P14: Add to a sketch out of a sealed one's text = %d, want OK", e)
+	}
+	if e := d.Add(0, 7, 1); e != api.ErrSealed {
+		t.Errorf("P6: Add to the sealed sketch = %d, want ErrSealed", e)
+	}
+}

@@ -5,6 +5,7 @@ import (
 	"sketch/api"
 	"sketch/keep"
 	"sketch/tape"
+	"sketch/texts"
 )
 
 // Desk holds a tape of coins, and sketches.
@@ -50,12 +51,8 @@ func (d *Desk) Open(k int) (int, api.Errno) {
 	if k < api.MinK || k > api.MaxK {
 		return 0, api.ErrArg
 	}
-	if len(d.sketches) >= d.room {
-		return 0, api.ErrRoom
-	}
-	begun := held{kept: keep.Begin(k)}
-	d.sketches = append(d.sketches, begun)
-	return len(d.sketches) - 1, api.OK
+	begun := keep.Begin(k)
+	return d.begin(begun)
 }
 
 // Add lets a number come in (P6).
@@ -185,6 +182,23 @@ func (d *Desk) Split(s int, cuts []int) ([]int, api.Errno) {
 	return kept.Split(cuts), api.OK
 }
 
+// Encode writes a sketch as a text (P13).
+func (d *Desk) Encode(s int) (string, api.Errno) {
+	if !d.has(s) {
+		return "", api.ErrSketch
+	}
+	return texts.Write(d.sketches[s].kept), api.OK
+}
+
+// Decode begins a sketch out of a text (P14).
+func (d *Desk) Decode(text string) (int, api.Errno) {
+	read, sound := texts.Read(text)
+	if !sound {
+		return 0, api.ErrText
+	}
+	return d.begin(read)
+}
+
 // rise tells whether each cut is above the one ahead of it.
 func rise(cuts []int) bool {
 	for i := 1; i < len(cuts); i++ {
@@ -200,6 +214,16 @@ func (d *Desk) has(s int) bool {
 	return s >= 0 && s < len(d.sketches)
 }
 
+// begin puts a sketch on the desk, behind the last, and answers its number.
+func (d *Desk) begin(kept keep.Sketch) (int, api.Errno) {
+	if len(d.sketches) >= d.room {
+		return 0, api.ErrRoom
+	}
+	begun := held{kept: kept}
+	d.sketches = append(d.sketches, begun)
+	return len(d.sketches) - 1, api.OK
+}
+
 // settle puts next, once it has settled, in the place of sketch s, which there is.
 // With too few coins sketch s stays as it was.
 func (d *Desk) settle(s int, next keep.Sketch) api.Errno {
@@ -212,12 +236,6 @@ func (d *Desk) settle(s int, next keep.Sketch) api.Errno {
 	d.tape.Use(used)
 	return api.OK
 }
-
-// Encode writes a sketch as a text (P13).
-func (d *Desk) Encode(s int) (string, api.Errno) { return "", api.OK }
-
-// Decode begins a sketch out of a text (P14).
-func (d *Desk) Decode(text string) (int, api.Errno) { return 0, api.OK }
 
 // Seal lets nothing more come into a sketch (P15).
 func (d *Desk) Seal(s int) api.Errno { return api.OK }
