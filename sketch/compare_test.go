@@ -46,17 +46,24 @@ func someCoins(r *rand.Rand, n int) string {
 	return text.String()
 }
 
+// report is a text and what the model says of it: nil, if it is no sketch's.
+type report struct {
+	text string
+	m    *model
+}
+
 // both is a desk and what the model says of it.
 type both struct {
 	d        *sketch.Desk
 	room     int
 	sketches []*model
 	coins    string
+	reports  []report
 	answers  [11]int // how many calls were answered so
 }
 
 func bothOf(t *testing.T, room int, ks ...int) *both {
-	b := &both{d: deskOf(t, room, "", ks...), room: room}
+	b := &both{d: deskOf(t, room, "", ks...), room: room, reports: []report{{textOfNone, modelOf(2)}}}
 	for _, k := range ks {
 		b.sketches = append(b.sketches, modelOf(k))
 	}
@@ -92,7 +99,7 @@ func (b *both) copy(t *testing.T, s int) {
 	begun, want := 0, api.ErrRoom
 	if len(b.sketches) < b.room {
 		begun, want = len(b.sketches), api.OK
-		b.sketches = append(b.sketches, b.sketches[s].copied())
+		b.sketches = append(b.sketches, b.sketches[s].ofText())
 	}
 	text := encode(t, b.d, s)
 	n, got := b.d.Decode(text)
@@ -100,6 +107,50 @@ func (b *both) copy(t *testing.T, s int) {
 		t.Fatalf("P14: Decode(%q) = %d, %d, want %d, %d", text, n, got, begun, want)
 	}
 	b.compare(t, fmt.Sprintf("P14: Decode(%q)", text), got, want)
+}
+
+func (b *both) seal(t *testing.T, s int) {
+	want := api.OK
+	if b.sketches[s].sealed {
+		want = api.ErrSealed
+	}
+	b.sketches[s].sealed = true
+	got := b.d.Seal(s)
+	b.compare(t, fmt.Sprintf("P15: Seal(%d)", s), got, want)
+}
+
+// note keeps the text of a sketch as a report.
+func (b *both) note(t *testing.T, s int) {
+	b.reports = append(b.reports, report{encode(t, b.d, s), b.sketches[s].ofText()})
+}
+
+func (b *both) take(t *testing.T, s int, n name, o report) {
+	next, rest, want := wantTake(b.sketches[s], n, o.m, b.coins)
+	b.sketches[s], b.coins = next, rest
+	got := b.d.Take(s, n.sender, n.seq, o.text)
+	b.compare(t, fmt.Sprintf("P16: Take(%d, %d, %d, %q)", s, n.sender, n.seq, o.text), got, want)
+}
+
+// someReport is one that was kept, at times with its last byte changed.
+func (b *both) someReport(r *rand.Rand) report {
+	o := b.reports[r.Intn(len(b.reports))]
+	if r.Intn(6) > 0 {
+		return o
+	}
+	last := len(o.text) - 1
+	return report{o.text[:last] + string([]byte{o.text[last] + 1}), nil}
+}
+
+// someName is mostly one that seen looks for, at times one that may not be.
+func someName(r *rand.Rand) name {
+	switch r.Intn(10) {
+	case 0:
+		return name{oddNumbers[r.Intn(len(oddNumbers))], oddNumbers[r.Intn(len(oddNumbers))]}
+	case 1, 2:
+		return name{r.Intn(256), r.Intn(1000)}
+	}
+	names := someNames()
+	return names[r.Intn(len(names))]
 }
 
 func (b *both) compare(t *testing.T, call string, got, want api.Errno) {
@@ -113,7 +164,7 @@ func (b *both) compare(t *testing.T, call string, got, want api.Errno) {
 	}
 }
 
-// tryCalls makes some calls on a desk and on its model; one call out of so many is a Merge, half as many are a Decode.
+// tryCalls makes some calls on a desk and on its model; one call out of so many is a Merge, as many are a Take, half as many are a Decode.
 func tryCalls(t *testing.T, seed int64, calls, merges int, onlyOnes bool) *both {
 	r := rand.New(rand.NewSource(seed))
 	b := bothOf(t, 5, 2, 2+r.Intn(6), 2+r.Intn(63))
@@ -121,22 +172,28 @@ func tryCalls(t *testing.T, seed int64, calls, merges int, onlyOnes bool) *both 
 		if r.Intn(8) == 0 {
 			b.feed(t, someCoins(r, r.Intn(12)))
 		}
-		s := r.Intn(len(b.sketches))
-		if r.Intn(merges) == 0 {
-			b.merge(t, s, r.Intn(len(b.sketches)))
-			continue
-		}
-		if r.Intn(2*merges) == 0 {
-			b.copy(t, s)
-			continue
-		}
-		w := 1
-		if !onlyOnes {
-			w = someWeight(r, b.sketches[s].count())
-		}
-		b.add(t, s, someNumber(r), w)
+		b.someCall(t, r, merges, onlyOnes)
 	}
 	return b
+}
+
+func (b *both) someCall(t *testing.T, r *rand.Rand, merges int, onlyOnes bool) {
+	s, o := r.Intn(len(b.sketches)), r.Intn(len(b.sketches))
+	switch {
+	case r.Intn(200) == 0:
+		b.seal(t, s)
+	case r.Intn(merges) == 0:
+		b.merge(t, s, o)
+	case r.Intn(merges) == 0:
+		b.note(t, o)
+		b.take(t, s, someName(r), b.someReport(r))
+	case r.Intn(2*merges) == 0:
+		b.copy(t, s)
+	case onlyOnes:
+		b.add(t, s, someNumber(r), 1)
+	default:
+		b.add(t, s, someNumber(r), someWeight(r, b.sketches[s].count()))
+	}
 }
 
 func TestAgainstTheModel(t *testing.T) {
@@ -150,7 +207,7 @@ func TestAgainstTheModel(t *testing.T) {
 			compareTold(t, b.d, s, m)
 		}
 	}
-	for _, e := range []api.Errno{api.OK, api.ErrArg, api.ErrRoom, api.ErrFull, api.ErrTape} {
+	for _, e := range []api.Errno{api.OK, api.ErrArg, api.ErrRoom, api.ErrSealed, api.ErrFull, api.ErrTape, api.ErrText, api.ErrTwice} {
 		if answers[e] < 100 {
 			t.Errorf("too few calls are answered %d: %v", e, answers)
 		}

@@ -24,6 +24,8 @@ func TestShapeHangsOnWeightsAlone(t *testing.T) {
 		if i%100 == 99 {
 			merge(t, a, 0, i/100%2)
 			merge(t, b, 0, i/100%2)
+			take(t, a, 1, 0, i, encode(t, a, 0))
+			take(t, b, 1, 0, i, encode(t, b, 0))
 		}
 		if i == 450 {
 			decode(t, a, encode(t, a, 0), 2)
@@ -72,12 +74,18 @@ func TestWhatIsToldIsTrue(t *testing.T) {
 			if m.count() == 0 {
 				continue
 			}
-			wantTrueRanks(t, b.d, s, m)
-			wantTrueQuantiles(t, b.d, s, m)
-			wantCame(t, b.d, s, m)
-			wantBounds(t, b.d, s, m, onlyOnes)
+			wantTrue(t, b.d, s, m, onlyOnes)
 		}
 	}
+}
+
+// wantTrue tells that what a sketch with items tells holds against all that came in.
+func wantTrue(t *testing.T, d *sketch.Desk, s int, m *model, onlyOnes bool) {
+	t.Helper()
+	wantTrueRanks(t, d, s, m)
+	wantTrueQuantiles(t, d, s, m)
+	wantCame(t, d, s, m)
+	wantBounds(t, d, s, m, onlyOnes)
 }
 
 // wantTrueRanks tells that Low, High and the error hold against all that came in.
@@ -222,4 +230,51 @@ func TestCoinsAreFairForSketchesOfTexts(t *testing.T) {
 	})
 	wantFair(t, desks, 2, slices.Concat(one, two), false)
 	wantFair(t, desks, 1, slices.Concat(one, two, one), false)
+}
+
+func TestCoinsAreFairForReports(t *testing.T) {
+	one := []int{5, 3, 9, 1, 7, 2, 8}
+	two := []int{2, 6, 6, 1}
+	three := []int{10, 4}
+	desks := inAllWays(t, 7, []int{2, 3}, func(d *sketch.Desk) {
+		add(t, d, 0, 1, one...)
+		add(t, d, 1, 1, two...)
+		take(t, d, 1, 0, 0, encode(t, d, 0))
+		add(t, d, 1, 1, three...)
+		take(t, d, 1, 0, 1, encode(t, d, 1))
+		decode(t, d, encode(t, d, 1), 2)
+		take(t, d, 2, 0, 0, encode(t, d, 0))
+	})
+	all := slices.Concat(two, one, three)
+	wantFair(t, desks, 1, slices.Concat(all, all), false)
+	wantFair(t, desks, 2, slices.Concat(all, all, one), false)
+}
+
+// Reports come from a desk of their own, by weights of 1 alone, into one sketch that was opened and one that was decoded.
+func TestWhatIsToldBehindManyReportsIsTrue(t *testing.T) {
+	for _, k := range []int{2, 3, 10, 64} {
+		r := rand.New(rand.NewSource(int64(k)))
+		to := bothOf(t, 2, k)
+		to.copy(t, 0)
+		for i := range api.MaxTaken {
+			from := bothOf(t, 1, 2+r.Intn(63))
+			from.feed(t, someCoins(r, api.MaxTape))
+			for range r.Intn(150) {
+				from.add(t, 0, r.Intn(2000)-1000, 1)
+			}
+			from.note(t, 0)
+			for s := range 2 {
+				to.feed(t, someCoins(r, max(0, 50-len(to.coins))))
+				to.take(t, s, name{i % 5, i}, from.reports[1])
+				to.take(t, s, name{i % 5, i}, from.reports[1])
+				to.add(t, s, r.Intn(2000)-1000, 1)
+			}
+		}
+		if to.answers[api.ErrTwice] != 2*api.MaxTaken {
+			t.Errorf("P16: with K %d not all reports were taken: %v", k, to.answers)
+		}
+		for s, m := range to.sketches {
+			wantTrue(t, to.d, s, m, true)
+		}
+	}
 }

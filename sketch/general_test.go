@@ -23,6 +23,12 @@ func TestCallsOnOtherDesksMeanNothing(t *testing.T) {
 	add(t, beside, 1, 3, 1, 2, 3, 4)
 	merge(t, other, 1, 0)
 	merge(t, beside, 1, 0)
+	take(t, alone, 0, 1, 1, textOfFive)
+	seal(t, alone, 1)
+	take(t, other, 0, 1, 1, textOfFive)
+	seal(t, other, 0)
+	take(t, beside, 0, 1, 1, textOfFive)
+	seal(t, beside, 1)
 	if one, two := seen(alone), seen(beside); one != two {
 		t.Errorf("P2: the same calls, beside those on another desk:\n%s\n%s", one, two)
 	}
@@ -87,6 +93,7 @@ func TestNoCallPanics(t *testing.T) {
 			}
 			for _, c := range oddNumbers {
 				d.Add(a, b, c)
+				d.Take(a, b, c, texts[4])
 			}
 			d.Open(a)
 			d.Size(a)
@@ -102,6 +109,10 @@ func TestNoCallPanics(t *testing.T) {
 			d.Split(a, nil)
 			d.Encode(a)
 			d.Seal(a)
+			d.Add(a, b, b)
+			d.Merge(a, b)
+			d.Take(a, b, b, texts[4])
+			d.Encode(a)
 			d.Left()
 		}
 	}

@@ -82,6 +82,33 @@ func seen(d *sketch.Desk) string {
 	text := fmt.Sprintf("left %d", d.Left())
 	for s := 0; s < api.MaxRoom; s++ {
 		text += seenSketch(d, s)
+		text += seenHeld(d, s)
+	}
+	return text
+}
+
+// someNames are reports whose being taken seen looks for.
+func someNames() []name {
+	names := []name{}
+	for _, sender := range []int{0, 1, 255} {
+		for _, seq := range []int{0, 1, highest} {
+			names = append(names, name{sender, seq})
+		}
+	}
+	return names
+}
+
+// seenHeld writes whether a sketch is sealed, and which of some reports it took.
+// It asks by calls that are refused either way: for their weight and for their text.
+func seenHeld(d *sketch.Desk, s int) string {
+	if d.Add(s, 0, 0) == api.ErrSealed {
+		return " sealed"
+	}
+	text := ""
+	for _, n := range someNames() {
+		if d.Take(s, n.sender, n.seq, "") == api.ErrTwice {
+			text += fmt.Sprint(" took ", n)
+		}
 	}
 	return text
 }

@@ -10,10 +10,17 @@ import (
 
 // model is a sketch as the document tells it, with no care for speed.
 type model struct {
-	k     int
-	items [][]int
-	times []int
-	came  []coming
+	k      int
+	items  [][]int
+	times  []int
+	came   []coming
+	sealed bool
+	took   []name
+}
+
+// name is what tells a report from others.
+type name struct {
+	sender, seq int
 }
 
 // coming is a number that came in, with its weight.
@@ -26,6 +33,13 @@ func modelOf(k int) *model {
 }
 
 func (m *model) copied() *model {
+	c := m.ofText()
+	c.sealed, c.took = m.sealed, slices.Clone(m.took)
+	return c
+}
+
+// ofText is the sketch that is begun out of the model's text.
+func (m *model) ofText() *model {
 	c := &model{k: m.k, times: slices.Clone(m.times), came: slices.Clone(m.came)}
 	for _, items := range m.items {
 		c.items = append(c.items, slices.Clone(items))
@@ -168,12 +182,30 @@ func seenModel(sketches []*model, left int) string {
 		least, greatest := m.ends()
 		text += fmt.Sprintf("; %+v, %d to %d, %+v", size, least, greatest, m.ledger()) + levels
 		text += fmt.Sprintf(" %x", m.parts().text())
+		text += m.seenHeld()
+	}
+	return text
+}
+
+// seenHeld writes whether it is sealed, and which of some reports it took, as the helper of that name does for a desk.
+func (m *model) seenHeld() string {
+	if m.sealed {
+		return " sealed"
+	}
+	text := ""
+	for _, n := range someNames() {
+		if slices.Contains(m.took, n) {
+			text += fmt.Sprint(" took ", n)
+		}
 	}
 	return text
 }
 
 // wantAdd is what the model says of an Add, and the model and coins behind it.
 func wantAdd(m *model, x, w int, coins string) (*model, string, api.Errno) {
+	if m.sealed {
+		return m, coins, api.ErrSealed
+	}
 	if w < 1 {
 		return m, coins, api.ErrArg
 	}
@@ -187,12 +219,36 @@ func wantAdd(m *model, x, w int, coins string) (*model, string, api.Errno) {
 
 // wantMerge is what the model says of a Merge, and the model and coins behind it.
 func wantMerge(m, o *model, coins string) (*model, string, api.Errno) {
+	if m.sealed {
+		return m, coins, api.ErrSealed
+	}
 	if m.count()+o.count() > api.MaxCount {
 		return m, coins, api.ErrFull
 	}
 	next := m.copied()
 	next.merge(o.copied())
 	return settledModel(m, next, coins)
+}
+
+// wantTake is what the model says of a Take, and the model and coins behind it; o is nil if the text is no sketch's.
+func wantTake(m *model, n name, o *model, coins string) (*model, string, api.Errno) {
+	switch {
+	case m.sealed:
+		return m, coins, api.ErrSealed
+	case n.sender < 0 || n.sender > 255 || n.seq < 0:
+		return m, coins, api.ErrArg
+	case slices.Contains(m.took, n):
+		return m, coins, api.ErrTwice
+	case o == nil:
+		return m, coins, api.ErrText
+	case len(m.took) == 64:
+		return m, coins, api.ErrRoom
+	}
+	next, rest, e := wantMerge(m, o, coins)
+	if e == api.OK {
+		next.took = append(next.took, n)
+	}
+	return next, rest, e
 }
 
 // settledModel is next, settled, and the coins behind that; or m, if there are too few.

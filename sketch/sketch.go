@@ -15,12 +15,6 @@ type Desk struct {
 	sketches []held
 }
 
-// held is a sketch on the desk, and whether it is sealed: that is not among what merges and texts hand on.
-type held struct {
-	kept   keep.Sketch
-	sealed bool
-}
-
 // New makes a desk (P3).
 func New(room int) (*Desk, api.Errno) {
 	if room < 1 || room > api.MaxRoom {
@@ -86,14 +80,8 @@ func (d *Desk) Merge(s int, t int) api.Errno {
 	if d.sketches[s].sealed {
 		return api.ErrSealed
 	}
-	kept := d.sketches[s].kept
 	comes := d.sketches[t].kept
-	count := kept.Count()
-	if count+comes.Count() > api.MaxCount {
-		return api.ErrFull
-	}
-	next := kept.Merged(comes)
-	return d.settle(s, next)
+	return d.merge(s, comes)
 }
 
 // Size tells what a sketch has (P7).
@@ -199,6 +187,48 @@ func (d *Desk) Decode(text string) (int, api.Errno) {
 	return d.begin(read)
 }
 
+// Seal lets nothing more come into a sketch (P15).
+func (d *Desk) Seal(s int) api.Errno {
+	if !d.has(s) {
+		return api.ErrSketch
+	}
+	if d.sketches[s].sealed {
+		return api.ErrSealed
+	}
+	d.sketches[s].sealed = true
+	return api.OK
+}
+
+// Take lets a sender's report come in, once (P16).
+func (d *Desk) Take(s int, sender int, seq int, text string) api.Errno {
+	if !d.has(s) {
+		return api.ErrSketch
+	}
+	if d.sketches[s].sealed {
+		return api.ErrSealed
+	}
+	if sender < 0 || sender > api.MaxSender || seq < 0 {
+		return api.ErrArg
+	}
+	name := report{sender: sender, seq: seq}
+	if d.sketches[s].took(name) {
+		return api.ErrTwice
+	}
+	comes, sound := texts.Read(text)
+	if !sound {
+		return api.ErrText
+	}
+	if len(d.sketches[s].taken) >= api.MaxTaken {
+		return api.ErrRoom
+	}
+	// A report that does not come in is not taken, so that it may come once more.
+	answer := d.merge(s, comes)
+	if answer == api.OK {
+		d.sketches[s].taken = append(d.sketches[s].taken, name)
+	}
+	return answer
+}
+
 // rise tells whether each cut is above the one ahead of it.
 func rise(cuts []int) bool {
 	for i := 1; i < len(cuts); i++ {
@@ -224,6 +254,17 @@ func (d *Desk) begin(kept keep.Sketch) (int, api.Errno) {
 	return len(d.sketches) - 1, api.OK
 }
 
+// merge lets all that came into another sketch come into sketch s, which there is and which is not sealed.
+func (d *Desk) merge(s int, comes keep.Sketch) api.Errno {
+	kept := d.sketches[s].kept
+	count := kept.Count()
+	if count+comes.Count() > api.MaxCount {
+		return api.ErrFull
+	}
+	next := kept.Merged(comes)
+	return d.settle(s, next)
+}
+
 // settle puts next, once it has settled, in the place of sketch s, which there is.
 // With too few coins sketch s stays as it was.
 func (d *Desk) settle(s int, next keep.Sketch) api.Errno {
@@ -236,9 +277,3 @@ func (d *Desk) settle(s int, next keep.Sketch) api.Errno {
 	d.tape.Use(used)
 	return api.OK
 }
-
-// Seal lets nothing more come into a sketch (P15).
-func (d *Desk) Seal(s int) api.Errno { return api.OK }
-
-// Take lets a sender's report come in, once (P16).
-func (d *Desk) Take(s int, sender int, seq int, text string) api.Errno { return api.OK }
